@@ -1,0 +1,38 @@
+"""The names and arguments of the interface, as far as it is built."""
+
+import inspect
+import unittest
+
+from traitmere import boxes, kinds, texts
+
+FUNCTIONS = (
+    (boxes.built, "(kinds, nodes)"), (boxes.fits, "(kinds, box)"), (texts.written, "(box)"),
+    (texts.read, "(kinds, text)"),
+)
+METHODS = {
+    boxes.Box: {"kind": "(self)", "nodes": "(self)", "behind": "(self, path)", "__len__": "(self)",
+                "__eq__": "(self, other)", "__str__": "(self)", "__repr__": "(self)"},
+    kinds.Kinds: {"__init__": "(self)", "put": "(self, name, ups=('any',), *, rooms=())", "drop": "(self, name)",
+                  "must": "(self, name, box)", "free": "(self, name)", "names": "(self)", "ups": "(self, name)",
+                  "above": "(self, name)", "under": "(self, name)", "is_below": "(self, one, other)",
+                  "low": "(self, one, other)", "high": "(self, one, other)", "rooms": "(self, name)",
+                  "told": "(self, name)", "home": "(self, room)", "let_in": "(self, name, room)",
+                  "must_of": "(self, name)", "twin": "(self)", "__len__": "(self)", "__eq__": "(self, other)",
+                  "__repr__": "(self)"},
+}
+
+
+class TestInterface(unittest.TestCase):
+    def test_functions(self):
+        for function, given in FUNCTIONS:
+            self.assertEqual(str(inspect.signature(function)), given, function.__name__)
+
+    def test_methods_stand_in_their_classes(self):
+        for owner, methods in METHODS.items():
+            for name, given in methods.items():
+                self.assertIn(name, vars(owner))
+                self.assertEqual(str(inspect.signature(vars(owner)[name])), given, name)
+
+
+if __name__ == "__main__":
+    unittest.main()

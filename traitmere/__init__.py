@@ -1,0 +1,1 @@
+"""Traitmere: boxes of kinds with shared rooms."""
