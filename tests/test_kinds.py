@@ -334,6 +334,11 @@ class TestRooms(unittest.TestCase):
         self.assertEqual(check.refused(NoFit, self.kinds.put, "x", ["case", "tank"], rooms=[("an", "any")]).room, "in")
         self.assertEqual(refused(self, Wider, self.kinds.put, "x", ["tank", "case"], rooms=[("in", "red")]).room, "in")
 
+    def test_first_no_fit_as_rooms_rise(self):
+        kinds = table(("a", "any", ""), ("b", "any", ""), ("home", "any", "zz:any mm:any"), ("more", "home", "aa:any"),
+                      ("one", "more", "zz:a mm:a aa:a"), ("other", "more", "zz:b mm:b aa:b"))
+        self.assertEqual(refused(self, NoFit, kinds.put, "x", ["one", "other"]).room, "aa")
+
     def test_no_fit_of_a_room_that_is_not_told(self):
         self.kinds.put("carp", ["fish", "red"])
         self.kinds.put("tank", ["holder"], rooms=[("in", "live"), ("out", "thing")])
