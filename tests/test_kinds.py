@@ -346,15 +346,27 @@ class TestRooms(unittest.TestCase):
         self.assertEqual(refused(self, NoFit, self.kinds.put, "x", ["tank", "case"], rooms=[("in", "carp")]).room,
                          "out")
 
-    def test_the_low_may_be_the_new_kind_itself(self):
-        kinds = table(("a", "any", ""), ("b", "any", ""), ("home", "any", "r:any"), ("ha", "home", "r:a"),
-                      ("hb", "home", "r:b"))
-        refused(self, NoFit, kinds.put, "x", ["ha", "hb"])
-        kinds.put("x", ["ha", "hb", "a", "b"])
-        self.assertEqual(kinds.let_in("x", "r"), "x")
-        self.assertEqual(kinds.low("a", "b"), "x")
-        kinds.drop("x")
-        self.assertIsNone(kinds.low("a", "b"))
+    def test_the_new_kind_itself_is_no_low_of_what_its_ups_let(self):
+        kinds = table(("a", "any", ""), ("b", "any", ""), ("home", "any", "r:any q:any"), ("ha", "home a", "r:a"),
+                      ("hb", "home b", "r:b"))
+        check = Unchanged(self, kinds)
+        self.assertEqual(check.refused(NoFit, kinds.put, "x", ["ha", "hb"]).room, "r")
+        self.assertEqual(check.refused(NoFit, kinds.put, "x", ["hb", "ha", "b"], rooms=[("q", "a")]).room, "r")
+        kinds.put("ab", ["a", "b"])
+        self.assertEqual(refused(self, Forked, kinds.put, "x", ["ha", "hb"]).one, "a")
+        kinds.put("x", ["ha", "hb", "ab"])
+        self.assertEqual(kinds.rooms("x"), [("q", "any"), ("r", "ab")])
+        self.assertEqual(kinds.low("a", "b"), "ab")
+
+    def test_the_new_kind_is_no_low_of_three(self):
+        kinds = table(("a", "any", ""), ("b", "any", ""), ("c", "any", ""), ("ab", "a b", ""),
+                      ("home", "any", "r:any"), ("ha", "home a", "r:a"), ("hb", "home b", "r:b"),
+                      ("hc", "home c", "r:c"))
+        check = Unchanged(self, kinds)
+        self.assertEqual(check.refused(NoFit, kinds.put, "x", ["ha", "hb", "hc", "ab"]).room, "r")
+        kinds.put("all", ["ab", "c"])
+        kinds.put("x", ["ha", "hb", "hc", "all"])
+        self.assertEqual(kinds.let_in("x", "r"), "all")
 
     def test_bad_name(self):
         check = Unchanged(self, self.kinds)

@@ -29,10 +29,11 @@ class Kinds:
         """Bring in a new kind."""
         self.check_new(name)
         self.check_ups(ups)
-        # Later refusals look at the table with the new kind in it, so a trial is taken over only if none is due.
+        told = self.checked_rooms(ups, rooms)
+        lets = self.lets_below(ups, told)
+        # The new kind may close a ring of musts, so a trial has it first.
         trial = self.twin()
-        trial.place(name, ups)
-        trial.furnish(name, trial.checked_rooms(name, rooms))
+        trial.place(name, ups, told, lets)
         if has_ring(trial.upward, trial.bound):
             raise Ring(name)
         self.take_over(trial)
@@ -69,45 +70,49 @@ class Kinds:
             above.update(self.upward[up])
         return above
 
-    def place(self, name, ups):
-        """Set a new kind, still without rooms, below its ups."""
+    def checked_rooms(self, ups, rooms):
+        """A dict of the rooms that a new kind below these ups tells."""
         above = self.above_all(ups)
-        above[name] = True
-        self.order.append(name)
-        self.straight[name] = tuple(sorted(set(ups)))
-        self.upward[name] = above
-
-    def checked_rooms(self, name, rooms):
-        """A dict of the rooms that a kind tells, which is placed already."""
         told = {}
         for room, kind in rooms:
             if not is_name(room):
                 raise BadName(room)
-            if kind == name or kind not in self.upward:
-                raise NoKind(kind)
+            self.check_kind(kind)
             if room in told:
                 raise Twice(room)
-            if room in self.homes and self.homes[room] not in self.upward[name]:
+            if room in self.homes and self.homes[room] not in above:
                 raise Strange(room)
-            if not all([self.is_below(kind, let) for let in self.let_by_ups(name, room)]):
+            if not all([self.is_below(kind, let) for let in self.let_by(ups, room)]):
                 raise Wider(room)
             told[room] = kind
         return told
 
-    def let_by_ups(self, name, room):
-        """What those of a kind's ups let that have the room."""
-        return [self.lets[up][room] for up in self.straight[name] if room in self.lets[up]]
+    def let_by(self, ups, room):
+        """What those of the ups let that have the room."""
+        return [self.lets[up][room] for up in ups if room in self.lets[up]]
 
-    def furnish(self, name, told):
-        """Give a placed kind the rooms that it tells and those that come from its ups."""
+    def lets_below(self, ups, told):
+        """A dict of what a new kind lets that is below these ups and tells these rooms.
+
+        Lows are those of the table as it is, so the new kind itself is none of them.
+        """
         lets = dict(told)
         for room in sorted(self.homes):
-            let = self.let_by_ups(name, room)
+            let = self.let_by(ups, room)
             if let and room not in told:
                 low = low_of_all(self.upward, let)
                 if low is None:
                     raise NoFit(room)
                 lets[room] = low
+        return lets
+
+    def place(self, name, ups, told, lets):
+        """Set a new kind below its ups, with the rooms that it tells and all that it lets."""
+        above = self.above_all(ups)
+        above[name] = True
+        self.order.append(name)
+        self.straight[name] = tuple(sorted(set(ups)))
+        self.upward[name] = above
         self.own[name] = told
         self.lets[name] = lets
         for room in told:
@@ -126,8 +131,7 @@ class Kinds:
         """Whether other kinds or musts need the kind."""
         if len(self.under(name)) > 1 or name in self.bound:
             return True
-        others = [kind for kind in self.order if kind != name]
-        if any([name in list(self.lets[kind].values()) for kind in others]):
+        if any([name in list(lets.values()) for lets in self.lets.values()]):
             return True
         return any([name == kind for box in self.bound.values() for kind, pairs in box.nodes()])
 
