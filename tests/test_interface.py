@@ -3,11 +3,13 @@
 import inspect
 import unittest
 
-from traitmere import boxes, kinds, texts
+from traitmere import boxes, joins, kinds, texts, walks
 
 FUNCTIONS = (
     (boxes.built, "(kinds, nodes)"), (boxes.fits, "(kinds, box)"), (texts.written, "(box)"),
-    (texts.read, "(kinds, text)"),
+    (texts.read, "(kinds, text)"), (walks.below, "(kinds, low, high)"), (walks.walk, "(kinds, low, high)"),
+    (walks.over, "(kinds, one, other)"), (walks.at_rest, "(kinds, box)"), (joins.join, "(kinds, one, other)"),
+    (joins.join_all, "(kinds, boxes)"), (joins.rest, "(kinds, box)"),
 )
 METHODS = {
     boxes.Box: {"kind": "(self)", "nodes": "(self)", "behind": "(self, path)", "__len__": "(self)",

@@ -1,50 +1,17 @@
 import random
 import unittest
 
-from tests.tables import refused, small_table
+from tests import words
+from tests.tables import random_box, refused, small_table, table
 from traitmere.boxes import built
-from traitmere.errors import (BadName, BadParts, Forked, Full, NoFit, NoKind, NoMust, NoRoom, Ring, Strange, Taken,
-                              Twice, Unfit, Used, Wider)
+from traitmere.errors import (BadName, BadParts, Forked, Full, Missing, NoFit, NoKind, NoMust, NoRoom, Ring, Strange,
+                              Taken, TraitError, Twice, Unfit, Used, Wider)
 from traitmere.kinds import ANY, MOST_KINDS, Kinds
 from traitmere.texts import read
 
 
-def table(*rows):
-    """A table of rows (name, ups, rooms), all written as texts."""
-    kinds = Kinds()
-    for name, ups, rooms in rows:
-        kinds.put(name, ups.split(), rooms=[tuple(pair.split(":")) for pair in rooms.split()])
-    return kinds
-
-
 def diamond():
     return table(("top", "any", ""), ("left", "top", ""), ("right", "top", ""), ("low", "left right", ""))
-
-
-def below_by_words(kinds, one, other):
-    """Below, as point [3] says it: by going up from ups to ups."""
-    return one == other or any(below_by_words(kinds, up, other) for up in kinds.ups(one))
-
-
-def greatest_by_words(kinds, one, other):
-    """All kinds that are a low of both, as point [4] says it."""
-    both = [kind for kind in kinds.names()
-            if below_by_words(kinds, kind, one) and below_by_words(kinds, kind, other)]
-    return [kind for kind in both if all(below_by_words(kinds, each, kind) for each in both)]
-
-
-def least_by_words(kinds, one, other):
-    both = [kind for kind in kinds.names()
-            if below_by_words(kinds, one, kind) and below_by_words(kinds, other, kind)]
-    return [kind for kind in both if all(below_by_words(kinds, kind, each) for each in both)]
-
-
-def fork_by_words(kinds, ups):
-    """The first fork of a new kind, as point [4] says it, or None."""
-    above = [kind for kind in kinds.names() if any(below_by_words(kinds, up, kind) for up in ups)]
-    forks = [(one, other) for one in above for other in above for low in greatest_by_words(kinds, one, other)
-             if low not in above]
-    return min(forks, default=None)
 
 
 class Unchanged:
@@ -243,7 +210,7 @@ class TestOrder(unittest.TestCase):
             chance.shuffle(fresh)
             for name in fresh:
                 ups = [chance.choice(kinds.names()) for count in range(chance.randint(1, 3))]
-                fork = fork_by_words(kinds, ups)
+                fork = words.first_fork(kinds, ups)
                 if fork is None:
                     kinds.put(name, ups)
                 else:
@@ -256,13 +223,13 @@ class TestOrder(unittest.TestCase):
     def check_by_words(self, kinds):
         names = kinds.names()
         for one in names:
-            self.assertEqual(kinds.above(one), sorted(kind for kind in names if below_by_words(kinds, one, kind)))
-            self.assertEqual(kinds.under(one), sorted(kind for kind in names if below_by_words(kinds, kind, one)))
+            self.assertEqual(kinds.above(one), sorted(kind for kind in names if words.kind_below(kinds, one, kind)))
+            self.assertEqual(kinds.under(one), sorted(kind for kind in names if words.kind_below(kinds, kind, one)))
             for other in names:
-                self.assertEqual(kinds.is_below(one, other), below_by_words(kinds, one, other))
-                self.assertEqual([kinds.high(one, other)], least_by_words(kinds, one, other))
+                self.assertEqual(kinds.is_below(one, other), words.kind_below(kinds, one, other))
+                self.assertEqual([kinds.high(one, other)], words.highs(kinds, one, other))
                 low = kinds.low(one, other)
-                self.assertEqual([] if low is None else [low], greatest_by_words(kinds, one, other))
+                self.assertEqual([] if low is None else [low], words.lows(kinds, one, other))
 
 
 class TestRooms(unittest.TestCase):
@@ -476,6 +443,33 @@ class TestMusts(unittest.TestCase):
         check.refused(NoKind, self.kinds.put, "ad", ["a", "d"], rooms=[("u", "none")])
         self.kinds.put("ab", ["a", "b"])
 
+    def test_a_new_kind_may_close_a_ring_of_several_steps(self):
+        self.must("a", "a[r:b]")
+        self.must("b", "b[s:c]")
+        self.must("c", "c[t:d]")
+        check = Unchanged(self, self.kinds)
+        for ups in (["a", "d"], ["d", "b"], ["c", "d"], ["d", "c", "b", "a"]):
+            self.assertEqual(check.refused(Ring, self.kinds.put, "new", ups).name, "new")
+        self.kinds.free("b")
+        self.kinds.put("new", ["a", "d"])
+        self.assertEqual(refused(self, Ring, self.must, "b", "b[s:c]").name, "b")
+
+    def test_a_ring_goes_behind_all_other_refusals(self):
+        self.must("a", "a[r:d]")
+        self.kinds.put("left")
+        self.kinds.put("right")
+        self.kinds.put("one", ["a", "left"], rooms=[("r", "left")])
+        self.kinds.put("other", ["a", "right"], rooms=[("r", "right")])
+        check = Unchanged(self, self.kinds)
+        self.assertEqual(check.refused(NoFit, self.kinds.put, "new", ["one", "other", "d"]).room, "r")
+        self.assertEqual(check.refused(Wider, self.kinds.put, "new", ["one", "d"], rooms=[("r", "d")]).room, "r")
+        self.assertEqual(check.refused(Ring, self.kinds.put, "new", ["one", "d"]).name, "new")
+        self.assertEqual(check.refused(Ring, self.kinds.put, "new", ["one", "d"], rooms=[("r", "one")]).name, "new")
+        check.refused(BadParts, self.kinds.put, "new", [])
+        check.refused(NoKind, self.kinds.put, "new", ["a", "none", "d"])
+        check.refused(Taken, self.kinds.put, "one", ["a", "d"])
+        check.refused(BadName, self.kinds.put, "New", ["a", "d"])
+
     def test_a_must_leads_only_to_kinds_with_musts(self):
         self.must("a", "a[r:b]")
         self.kinds.put("bd", ["b", "d"])
@@ -514,6 +508,84 @@ class TestMusts(unittest.TestCase):
         kinds.drop("hab")
         kinds.drop("ab")
         self.assertIsNone(kinds.low("a", "b"))
+
+
+class TestByWords(unittest.TestCase):
+    """Random deeds, each told ahead by the points' words."""
+
+    def setUp(self):
+        self.chance = random.Random(71)
+        self.counts = {}
+
+    def check_deed(self, kinds, told, call, *given, **named):
+        """Told is None where the deed is done, or the refusal's name and what it is about."""
+        check = Unchanged(self, kinds)
+        raised = None
+        try:
+            self.assertIsNone(call(*given, **named))
+        except (TraitError, Missing) as error:
+            raised = error.called, getattr(error, "room", getattr(error, "name", None))
+            self.assertEqual(check.all_of(kinds), check.before)
+        self.assertEqual(raised, told)
+        called = told and told[0]
+        self.counts[called] = self.counts.get(called, 0) + 1
+
+    def choose(self, things, most, least=0):
+        return [self.chance.choice(things) for count in range(self.chance.randint(least, most))]
+
+    def random_put(self, kinds, name):
+        ups = self.choose(kinds.names(), 3, 1)
+        rooms = [(self.chance.choice(["r", "r", "r", "s", "t", "R"]), self.chance.choice(kinds.names() + [name]))
+                 for count in self.choose("ab", 2)]
+        if words.first_fork(kinds, ups) is not None:
+            return
+        lets = words.rooms_of_new(kinds, ups, rooms)
+        told = None if isinstance(lets, dict) else lets
+        if told is None and self.closes_ring(kinds, name, ups):
+            told = "Ring", name
+        self.check_deed(kinds, told, kinds.put, name, ups, rooms=rooms)
+        if told is None:
+            self.assertEqual(kinds.rooms(name), sorted(lets.items()))
+            self.assertEqual(kinds.told(name), sorted(set(rooms)))
+
+    def closes_ring(self, kinds, name, ups):
+        """Tried in a table of the same order without rooms and musts."""
+        bare = Kinds()
+        for kind in kinds.names()[1:]:
+            bare.put(kind, kinds.ups(kind))
+        bare.put(name, ups)
+        return bool(words.rings(bare, words.musts_of(kinds)))
+
+    def random_must(self, kinds):
+        name, root = self.chance.choice(kinds.names()), self.chance.choice(kinds.names())
+        box = random_box(kinds, self.chance, self.chance.randint(1, 3), self.chance.choice([name, name, root]))
+        musts = words.musts_of(kinds)
+        told = None
+        if box.kind() != name:
+            told = "Unfit", None
+        elif name in musts:
+            told = "Taken", name
+        elif words.rings(kinds, {**musts, name: box}):
+            told = "Ring", name
+        self.check_deed(kinds, told, kinds.must, name, box)
+
+    def test_deeds(self):
+        for turn in range(150):
+            kinds = table(("left", "any", ""), ("right", "any", ""), ("home", "any", "r:any"),
+                          ("one", "home left", "r:left"), ("other", "home right", "r:right"))
+            for name in "abcdefghijkl":
+                self.random_put(kinds, name)
+                self.random_must(kinds)
+                gone = self.chance.choice(kinds.names())
+                if self.chance.random() < 0.3:
+                    told = ("Used", gone) if words.needed(kinds, gone) else None
+                    self.check_deed(kinds, told, kinds.drop, gone)
+                if self.chance.random() < 0.1 and kinds.names().count(gone):
+                    told = ("NoMust", gone) if kinds.must_of(gone) is None else None
+                    self.check_deed(kinds, told, kinds.free, gone)
+        for called in (None, "BadName", "NoKind", "Twice", "Strange", "Wider", "NoFit", "Ring", "Unfit", "Taken",
+                       "Used", "NoMust"):
+            self.assertGreater(self.counts.get(called, 0), 20, called)
 
 
 class TestTables(unittest.TestCase):

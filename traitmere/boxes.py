@@ -1,46 +1,46 @@
 """Boxes: webs of nodes with a root."""
 
 from traitmere.errors import BadNodes, NoKind, NoRoom, Twice, Unfit
-from traitmere.webs import numbered, text_of
+from traitmere.rows import numbered, text_of
 
 MOST_NODES = 40
 
 
 class Box:
-    """A web that never changes, so that it may be shared by all who have it."""
+    """Numbered rows of nodes that never change, so that they may be shared by all who have them."""
 
-    def __init__(self, web):
-        self.web = web
+    def __init__(self, rows):
+        self.rows = rows
 
     def kind(self):
         """The root's kind."""
-        return self.web[0][0]
+        return self.rows[0][0]
 
     def nodes(self):
         """A list of pairs (kind, list of pairs (room, number)), the root first."""
-        return [(kind, list(pairs)) for kind, pairs in self.web]
+        return [(kind, list(pairs)) for kind, pairs in self.rows]
 
     def behind(self, path):
         """The box of all that is behind a row of rooms."""
         at = 0
         for room in path:
-            there = dict(self.web[at][1])
+            there = dict(self.rows[at][1])
             if room not in there:
                 raise NoRoom(room)
             at = there[room]
-        return Box(numbered(self.web, at))
+        return Box(numbered(self.rows, at))
 
     def __len__(self):
-        return len(self.web)
+        return len(self.rows)
 
     def __eq__(self, other):
-        return isinstance(other, Box) and self.web == other.web
+        return isinstance(other, Box) and self.rows == other.rows
 
     def __str__(self):
-        return str(text_of(self.web))
+        return str(text_of(self.rows))
 
     def __repr__(self):
-        return f"Box({len(self.web)}: {self.web[0][0]})"
+        return f"Box({len(self.rows)}: {self.rows[0][0]})"
 
 
 def built(kinds, nodes):
@@ -75,9 +75,9 @@ def check_pairs(kinds, kind, pairs, many):
 def fits(kinds, box):
     """Whether the box fits the table, of whatever table it was made."""
     names = kinds.names()
-    if not all([kind in names for kind, pairs in box.web]):
+    if not all([kind in names for kind, pairs in box.rows]):
         return False
-    return rooms_fit(kinds, box.web)
+    return rooms_fit(kinds, box.rows)
 
 
 def rooms_fit(kinds, rows):

@@ -218,6 +218,10 @@ class Kinds:
         self.check_kind(name)
         return self.bound.get(name)
 
+    def musts_over(self, name):
+        """The musts of the kinds above that have one."""
+        return [must for kind, must in self.bound.items() if kind in self.upward[name]]
+
     def twin(self):
         """A table for itself with all that is in this one."""
         new = Kinds()

@@ -3,6 +3,10 @@
 
 def low_of(upward, one, other):
     """The greatest kind below both, or None."""
+    if other in upward[one]:
+        return one
+    if one in upward[other]:
+        return other
     shared = [kind for kind in upward if one in upward[kind] and other in upward[kind]]
     if not shared:
         return None

@@ -3,7 +3,7 @@
 from traitmere.boxes import Box, fits
 from traitmere.errors import BadText
 from traitmere.names import LETTERS
-from traitmere.webs import numbered, text_of
+from traitmere.rows import numbered, text_of
 
 FIGURES = "0123456789"
 
@@ -82,7 +82,7 @@ def scanned(text):
 
 def written(box):
     """The box's text."""
-    return text_of(box.web)
+    return text_of(box.rows)
 
 
 def read(kinds, text):

@@ -1,11 +1,11 @@
-"""Webs: rows (kind, pairs (room, number)), one for each node, the root first.
+"""Rows of nodes: (kind, pairs (room, number)), one for each node.
 
 Boxes may be of very many nodes in one chain, so nothing here calls itself: what is still to do waits in a list.
 """
 
 
 def numbered(rows, root):
-    """The web of all that is behind the root, renumbered as its nodes are met first."""
+    """The rows of all that is behind the root, renumbered as the nodes are met first."""
     numbers = {}
     waiting = [root]
     while waiting:
@@ -23,11 +23,11 @@ def renumbered(row, numbers):
     return kind, tuple([(room, numbers[number]) for room, number in sorted(pairs)])
 
 
-def tags_of(web):
+def tags_of(rows):
     """The tag of each node that has one, by its number."""
-    comings = [0 for row in web]
+    comings = [0 for row in rows]
     comings[0] = 1
-    for kind, pairs in web:
+    for kind, pairs in rows:
         for room, number in pairs:
             comings[number] += 1
     tags = {}
@@ -37,9 +37,9 @@ def tags_of(web):
     return tags
 
 
-def text_of(web):
-    """The text of the web's root."""
-    tags = tags_of(web)
+def text_of(rows):
+    """The text of the first of numbered rows."""
+    tags = tags_of(rows)
     pieces = []
     met = 0
     waiting = [0]
@@ -51,22 +51,22 @@ def text_of(web):
             pieces.append(tags[item])
         else:
             met += 1
-            pieces.append(head_of(web, item, tags))
-            waiting.extend(rest_of(web, item))
+            pieces.append(head_of(rows, item, tags))
+            waiting.extend(rest_of(rows, item))
     return "".join(pieces)
 
 
-def head_of(web, number, tags):
+def head_of(rows, number, tags):
     """What stands ahead of a node's bracket where the node is met first."""
-    kind = web[number][0]
+    kind = rows[number][0]
     if number in tags:
         return tags[number] + "=" + kind
     return kind
 
 
-def rest_of(web, number):
+def rest_of(rows, number):
     """What stands behind a node's kind, the last first: texts, and the numbers of nodes whose texts stand there."""
-    pairs = web[number][1]
+    pairs = rows[number][1]
     if not pairs:
         return []
     rest = []
