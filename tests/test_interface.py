@@ -3,13 +3,15 @@
 import inspect
 import unittest
 
-from traitmere import boxes, joins, kinds, texts, walks
+from traitmere import bench, boxes, joins, kinds, machine, papers, texts, walks
 
 FUNCTIONS = (
     (boxes.built, "(kinds, nodes)"), (boxes.fits, "(kinds, box)"), (texts.written, "(box)"),
     (texts.read, "(kinds, text)"), (walks.below, "(kinds, low, high)"), (walks.walk, "(kinds, low, high)"),
     (walks.over, "(kinds, one, other)"), (walks.at_rest, "(kinds, box)"), (joins.join, "(kinds, one, other)"),
     (joins.join_all, "(kinds, boxes)"), (joins.rest, "(kinds, box)"),
+    (papers.clash, "(kinds, one, other)"), (papers.shows, "(kinds, one, other, rows)"), (machine.compiled, "(box)"),
+    (machine.run, "(kinds, rows, box)"),
 )
 METHODS = {
     boxes.Box: {"kind": "(self)", "nodes": "(self)", "behind": "(self, path)", "__len__": "(self)",
@@ -21,6 +23,10 @@ METHODS = {
                   "told": "(self, name)", "home": "(self, room)", "let_in": "(self, name, room)",
                   "must_of": "(self, name)", "twin": "(self)", "__len__": "(self)", "__eq__": "(self, other)",
                   "__repr__": "(self)"},
+    bench.Bench: {"__init__": "(self, kinds)", "bring": "(self, box)",
+                  "fuse": "(self, one, other, *, path=(), other_path=())", "narrow": "(self, one, kind, *, path=())",
+                  "give": "(self, one, room, other, *, path=())", "told": "(self, one, *, path=())",
+                  "mark": "(self)", "back": "(self, mark)", "__len__": "(self)"},
 }
 
 

@@ -129,3 +129,90 @@ def at_rest(kinds, box, below):
             if must is not None and kind_below(kinds, behind.kind(), kind) and not below(kinds, behind, must):
                 return False
     return True
+
+
+def is_paper(kinds, one, other, rows):
+    """Point [13]: whether rows are a paper; what is wrong in a row comes out as some error of Python's."""
+    facts = []
+    try:
+        for row in rows:
+            assert isinstance(row, tuple) and not (facts and facts[-1] == "end")
+            facts.append(fact_of(kinds, one, other, rows, facts, row))
+    except (AssertionError, TypeError, ValueError, LookupError, AttributeError):
+        return False
+    named = {number for row in rows for number in rows_named(row)}
+    plain = [row for row in rows if row[0] != "must"]
+    return (bool(facts) and facts[-1] == "end" and named == set(range(len(rows) - 1))
+            and all(plain.count(row) == 1 for row in plain))
+
+
+def rows_named(row):
+    if row[0] == "own":
+        return [row[1][1]] if row[1][0] == "must" else []
+    return [given for given in row[1:] if isinstance(given, int)]
+
+
+def node_of(kinds, one, other, rows, facts, name):
+    """The kind and the rooms of a named node, each room with the name of what is there."""
+    assert isinstance(name, tuple)
+    word, *ahead, number = name
+    if word == "must":
+        (row,) = ahead
+        assert number_below(row, len(facts)) and rows[row][0] == "must"
+        box = kinds.must_of(rows[row][2])
+    else:
+        assert ahead == []
+        box = {"one": one, "other": other}[word]
+    assert number_below(number, len(box))
+    kind, pairs = box.nodes()[number]
+    return kind, {room: (word, *ahead, there) for room, there in pairs}
+
+
+def number_below(number, most):
+    return isinstance(number, int) and number in range(most)
+
+
+def fact_of(kinds, one, other, rows, facts, row):
+    """What a row tells: ("same", a, b), ("kind", a, kind) or "end"."""
+    def fact(number, word):
+        assert number_below(number, len(facts)) and facts[number][0] == word
+        return facts[number][1:]
+
+    def rooms(node):
+        return node_of(kinds, one, other, rows, facts, node)[1]
+
+    word, *given = row
+    if word == "roots":
+        () = given
+        return "same", ("one", 0), ("other", 0)
+    if word == "step":
+        row, room = given
+        first, second = fact(row, "same")
+        return "same", rooms(first)[room], rooms(second)[room]
+    if word == "turn":
+        (row,) = given
+        return ("same", *reversed(fact(row, "same")))
+    if word == "own":
+        (node,) = given
+        return "kind", node, node_of(kinds, one, other, rows, facts, node)[0]
+    first, second = given
+    if word == "chain":
+        (a, b), (again, c) = fact(first, "same"), fact(second, "same")
+        assert b == again
+        return "same", a, c
+    if word == "too":
+        (a, b), (again, kind) = fact(first, "same"), fact(second, "kind")
+        assert a == again
+        return "kind", b, kind
+    if word == "let":
+        node, kind = fact(first, "kind")
+        return "kind", rooms(node)[second], dict(kinds.rooms(kind))[second]
+    if word == "must":
+        node, kind = fact(first, "kind")
+        assert kind_below(kinds, kind, second) and kinds.must_of(second) is not None
+        return "same", node, ("must", len(facts), 0)
+    assert word in ("meet", "none")
+    (node, kind), (again, other_kind) = fact(first, "kind"), fact(second, "kind")
+    found = lows(kinds, kind, other_kind)
+    assert node == again and len(found) == (1 if word == "meet" else 0)
+    return ("kind", node, found[0]) if found else "end"

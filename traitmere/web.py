@@ -59,19 +59,8 @@ class Web:
                 self.heads[gone] = at
                 self.turned.append(at)
                 self.narrow(at, self.labels[gone])
-                waiting.extend(self.hand_over(gone, at))
-
-    def hand_over(self, gone, at):
-        """Give a thing's doors to another one; told are pairs of what stands behind doors that both have."""
-        old = self.doors[gone]
-        new = self.doors[at]
-        pairs = []
-        for room in old:
-            if room in new:
-                pairs.append((new[room], old[room]))
-            else:
-                new[room] = old[room]
-        return pairs
+                doors = hand_over(self.doors[gone], self.doors[at])
+                waiting.extend([(mine, theirs) for room, mine, theirs in doors])
 
     def enter(self, thing, room, kind):
         """What stands in a thing's room; where nothing does, a new thing of this kind comes in."""
@@ -96,6 +85,8 @@ class Web:
         # Each node of a box is met first by a room of a node ahead of it, so what stands for it is known at its turn.
         for number, (kind, pairs) in enumerate(box.rows):
             self.narrow(held[number], kind)
+            if self.broken:
+                return
             for room, there in pairs:
                 if there in held:
                     self.lead(held[number], room, held[there])
@@ -123,9 +114,45 @@ class Web:
         for must in self.table.musts_over(self.labels[at]):
             self.lay(at, must)
 
+    def kind_of(self, thing):
+        """The kind of which a thing is now."""
+        return self.labels[self.head(thing)]
+
+    def inside(self, thing, room):
+        """What stands in a thing's room, or None."""
+        return self.doors[self.head(thing)].get(room)
+
     def told(self, thing):
         """The box of all that is behind a thing."""
-        rows = []
-        for label, doors in zip(self.labels, self.doors):
-            rows.append((label, [(room, self.head(there)) for room, there in doors.items()]))
+        rows = {}
+        waiting = [self.head(thing)]
+        while waiting:
+            at = waiting.pop()
+            if at not in rows:
+                pairs = [(room, self.head(there)) for room, there in self.doors[at].items()]
+                rows[at] = (self.labels[at], pairs)
+                waiting.extend([there for room, there in pairs])
         return Box(numbered(rows, self.head(thing)))
+
+    def twin(self):
+        """A web for itself with all that is in this one."""
+        new = Web(self.table)
+        new.heads = list(self.heads)
+        new.labels = list(self.labels)
+        new.doors = [dict(doors) for doors in self.doors]
+        new.turned = list(self.turned)
+        new.calmed = list(self.calmed)
+        new.broken = self.broken
+        return new
+
+
+def hand_over(old, new):
+    """Give the doors of one thing to another one; told are the rooms that both have, with what the new and the old
+    doors lead to."""
+    both = []
+    for room in old:
+        if room in new:
+            both.append((room, new[room], old[room]))
+        else:
+            new[room] = old[room]
+    return both
