@@ -5,6 +5,7 @@ import random
 
 from traitmere.boxes import built
 from traitmere.errors import TraitError
+from traitmere.grammar import Grammar
 from traitmere.kinds import Kinds
 from traitmere.texts import read
 
@@ -103,3 +104,50 @@ def all_rows(kinds, name, size):
     """Each row that a node of this kind may have among so many nodes."""
     choices = [[()] + [((room, there),) for there in range(size)] for room, let in kinds.rooms(name)]
     return [(name, sum(pairs, ())) for pairs in itertools.product(*choices)]
+
+
+def speech_table():
+    """Kinds of a small language: numbers that have to agree, and `made`, of which rules are."""
+    return table(("num", "any", ""), ("one", "num", ""), ("many", "num", ""), ("phrase", "any", "num:num"),
+                 ("name", "phrase", ""), ("deed", "phrase", ""), ("thing", "phrase", ""), ("pick", "phrase", ""),
+                 ("told", "any", "does:deed who:name"), ("asked", "told", ""), ("mark", "any", ""),
+                 ("made", "any", "a:any b:any c:any whole:any"),
+                 musts=("told[does:deed[num:#1=num] who:name[num:#1]]",))
+
+
+SPEECH_WORDS = (("the", "pick"), ("a", "pick[num:one]"), ("dog", "thing[num:one]"), ("dogs", "thing[num:many]"),
+                ("runs", "deed[num:one]"), ("run", "deed[num:many]"), ("run", "thing[num:one]"))
+SPEECH_RULES = (("name", "made[a:pick[num:#1=num] b:thing[num:#1] whole:name[num:#1]]", ("a", "b")),
+                ("tell", "made[a:#1=name b:#2=deed whole:told[does:#2 who:#1]]", ("a", "b")),
+                ("bare", "made[a:mark b:#1=told c:mark whole:#1]", ("a", "b", "c")))
+
+
+def speech_grammar():
+    """A grammar of speech_table with a word of two meanings and rules of two and of three parts."""
+    grammar = Grammar(speech_table())
+    for name, text in SPEECH_WORDS:
+        grammar.word(name, read(grammar.kinds(), text))
+    for name, text, parts in SPEECH_RULES:
+        grammar.rule(name, read(grammar.kinds(), text), parts)
+    return grammar
+
+
+def all_of(grammar):
+    """All that is told of a grammar, so that it can be compared."""
+    return ([(name, [str(box) for box in grammar.meanings(name)]) for name in grammar.words()],
+            [(name, str(grammar.rule_of(name)[0]), grammar.rule_of(name)[1]) for name in grammar.rules()],
+            grammar.steps(), grammar.kept(), len(grammar))
+
+
+def random_grammar(chance, words=3, rules=3, many=6):
+    """A grammar of a random table and `make`, of which its rules are; what is refused is left out."""
+    kinds = random_table(chance, many)
+    kinds.put("make", rooms=[(room, "any") for room in ("a", "b", "c", "whole")])
+    grammar = Grammar(kinds)
+    for count in range(words * 2):
+        box = random_box(kinds, chance, chance.randint(1, 4))
+        without_refusal(grammar.word, "uvwxyz"[chance.randrange(words)], box)
+    for name in "klmnop"[:rules]:
+        box = random_box(kinds, chance, chance.randint(3, 6), "make", often=0.95)
+        without_refusal(grammar.rule, name, box, chance.sample("abc", chance.randint(2, 3)))
+    return grammar

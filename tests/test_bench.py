@@ -445,8 +445,11 @@ class SlowBench:
         return at
 
     def told(self, number):
-        rows = {at: (kind, list(rooms.items())) for at, (kind, rooms) in self.nodes.items()}
-        return Box(numbered(rows, self.roots[number]))
+        return self.behind(self.roots[number])
+
+    def behind(self, at):
+        rows = {each: (kind, list(rooms.items())) for each, (kind, rooms) in self.nodes.items()}
+        return Box(numbered(rows, at))
 
     def comes_to_rest(self, nodes, roots, pairs):
         """Whether these nodes come to rest where these pairs are one; then they stand here."""
@@ -484,7 +487,7 @@ class SlowBench:
                 let = self.kinds.let_in(kind, room)
                 if not self.kinds.is_below(self.nodes[there][0], let):
                     return self.new_pair(there, built(self.kinds, [(let, [])]))
-            behind = Box(numbered({each: (kind, list(rooms.items())) for each, (kind, rooms) in self.nodes.items()}, at))
+            behind = self.behind(at)
             for name, must in musts_of(self.kinds).items():
                 if self.kinds.is_below(kind, name) and not below(self.kinds, behind, must):
                     return self.new_pair(at, must)

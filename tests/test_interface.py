@@ -1,9 +1,9 @@
-"""The names and arguments of the interface, as far as it is built."""
+"""The names, arguments and constants of the interface."""
 
 import inspect
 import unittest
 
-from traitmere import bench, boxes, joins, kinds, machine, papers, texts, walks
+from traitmere import bench, boxes, chart, desk, grammar, joins, kinds, machine, pages, papers, texts, walks
 
 FUNCTIONS = (
     (boxes.built, "(kinds, nodes)"), (boxes.fits, "(kinds, box)"), (texts.written, "(box)"),
@@ -11,7 +11,8 @@ FUNCTIONS = (
     (walks.over, "(kinds, one, other)"), (walks.at_rest, "(kinds, box)"), (joins.join, "(kinds, one, other)"),
     (joins.join_all, "(kinds, boxes)"), (joins.rest, "(kinds, box)"),
     (papers.clash, "(kinds, one, other)"), (papers.shows, "(kinds, one, other, rows)"), (machine.compiled, "(box)"),
-    (machine.run, "(kinds, rows, box)"),
+    (machine.run, "(kinds, rows, box)"), (pages.table_page, "(kinds)"), (pages.grammar_page, "(grammar)"),
+    (pages.read_table, "(text)"), (pages.read_grammar, "(text)"),
 )
 METHODS = {
     boxes.Box: {"kind": "(self)", "nodes": "(self)", "behind": "(self, path)", "__len__": "(self)",
@@ -27,10 +28,22 @@ METHODS = {
                   "fuse": "(self, one, other, *, path=(), other_path=())", "narrow": "(self, one, kind, *, path=())",
                   "give": "(self, one, room, other, *, path=())", "told": "(self, one, *, path=())",
                   "mark": "(self)", "back": "(self, mark)", "__len__": "(self)"},
+    grammar.Grammar: {"__init__": "(self, kinds)", "word": "(self, name, box)", "unword": "(self, name, box)",
+                      "rule": "(self, name, box, parts)", "unrule": "(self, name)", "together": "(self, deeds)",
+                      "undo": "(self)", "redo": "(self)", "words": "(self)", "meanings": "(self, name)",
+                      "rules": "(self)", "rule_of": "(self, name)", "kinds": "(self)", "steps": "(self)",
+                      "readings": "(self, row, *, goal=None)", "tree": "(self, row, box)",
+                      "is_tree": "(self, row, box, text)", "said": "(self, goal, *, most=3)", "kept": "(self)",
+                      "twin": "(self)", "__len__": "(self)", "__eq__": "(self, other)"},
+    desk.Desk: {"__init__": "(self, grammar)", "say": "(self, line)", "grammar": "(self)"},
 }
 
 
 class TestInterface(unittest.TestCase):
+    def test_constants(self):
+        self.assertEqual((kinds.ANY, kinds.MOST_KINDS, chart.WHOLE), ("any", 24, "whole"))
+        self.assertEqual((grammar.MOST_WORDS, grammar.MOST_RULES), (12, 6))
+
     def test_functions(self):
         for function, given in FUNCTIONS:
             self.assertEqual(str(inspect.signature(function)), given, function.__name__)

@@ -37,6 +37,8 @@ def bound_names(node):
         return [node.id]
     if isinstance(node, (ast.FunctionDef, ast.ClassDef)):
         return [node.name]
+    if isinstance(node, ast.ExceptHandler):
+        return [node.name] if node.name else []
     if isinstance(node, ast.arg):
         return [node.arg]
     if isinstance(node, ast.alias):

@@ -237,7 +237,8 @@ class TestRead(unittest.TestCase):
                            "pair[left:word][right:word]")
 
     def test_signs_that_never_stand_in_a_text(self):
-        self.check_refused("Word", "WORD", "w0rd", "word1", "wo_rd", "~", "pair[left:word|right:word]", "pair{left:word}")
+        self.check_refused("Word", "WORD", "w0rd", "word1", "wo_rd", "~", "pair[left:word|right:word]",
+                           "pair{left:word}")
 
     def test_kinds_that_are_not_there(self):
         self.check_refused("none", "words", "wor", "ring[on:none]", "none[on:word]", "pair[left:word right:none]")

@@ -3,6 +3,10 @@
 import itertools
 import re
 
+from traitmere.boxes import Box
+from traitmere.joins import join
+from traitmere.rows import numbered
+
 
 def kind_below(kinds, one, other):
     """Point [3]: by going up from ups to ups."""
@@ -216,3 +220,55 @@ def fact_of(kinds, one, other, rows, facts, row):
     found = lows(kinds, kind, other_kind)
     assert node == again and len(found) == (1 if word == "meet" else 0)
     return ("kind", node, found[0]) if found else "end"
+
+
+def put_together(kinds, root, parts):
+    """A box of a root of this kind with boxes, as copies, in its rooms; parts are pairs of a room and a box."""
+    rows = [(root, [])]
+    for room, box in parts:
+        first = len(rows)
+        rows[0][1].append((room, first))
+        rows += [(kind, [(inner, there + first) for inner, there in pairs]) for kind, pairs in box.nodes()]
+    return Box(numbered(rows, 0))
+
+
+def made(kinds, rule, readings):
+    """Point [17]: what a rule, a pair of its box and parts, makes of readings, or None; by joins."""
+    box, parts = rule
+    inner = [(part, join(kinds, box.behind([part]), reading)) for part, reading in zip(parts, readings)]
+    if any(each is None for part, each in inner):
+        return None
+    told = join(kinds, box, put_together(kinds, box.kind(), inner))
+    return None if told is None else told.behind(["whole"])
+
+
+def trees(grammar, row, known=None):
+    """Point [17]: all trees of a row, one by one: pairs of a text and the box that it makes."""
+    known = {} if known is None else known
+    if len(row) == 1:
+        return [(f"{row[0]}.{number}", box) for number, box in enumerate(grammar.meanings(row[0]))]
+    if tuple(row) in known:
+        return known[tuple(row)]
+    told = known[tuple(row)] = []
+    for name in grammar.rules():
+        rule = grammar.rule_of(name)
+        for places in itertools.combinations(range(1, len(row)), len(rule[1]) - 1):
+            ends = [0, *places, len(row)]
+            for inner in itertools.product(*[trees(grammar, row[at:to], known) for at, to in zip(ends, ends[1:])]):
+                box = made(grammar.kinds(), rule, [each for text, each in inner])
+                if box is not None:
+                    told.append((f"({name} {' '.join(text for text, each in inner)})", box))
+    return told
+
+
+def readings(grammar, row):
+    """Point [17]: a row's readings, as pairs of a text and the number of its trees, rising."""
+    texts = [str(box) for tree, box in trees(grammar, row)]
+    return [(text, texts.count(text)) for text in sorted(set(texts))]
+
+
+def said(grammar, goal, most):
+    """Point [18]: all rows of at most so many words with a reading that can be joined with the goal."""
+    rows = [row for many in range(1, most + 1) for row in itertools.product(grammar.words(), repeat=many)]
+    kinds = grammar.kinds()
+    return sorted(row for row in rows if any(join(kinds, box, goal) for tree, box in trees(grammar, row)))
