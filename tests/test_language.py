@@ -1,6 +1,7 @@
 """Those rules of the program's language that can be told from the files by plain looking."""
 
 import ast
+import builtins
 import pathlib
 import re
 import unittest
@@ -46,6 +47,12 @@ def bound_names(node):
     return []
 
 
+def module_names(path):
+    """The names that a file gives a meaning to by itself, outside of functions and classes."""
+    rows = ast.parse(path.read_text(encoding="utf-8")).body
+    return [name for row in rows for node in (row, *getattr(row, "targets", ())) for name in bound_names(node)]
+
+
 class TestLanguage(unittest.TestCase):
     def test_the_folder_has_only_files_of_the_program(self):
         others = [path.name for path in PACKAGE.iterdir() if path not in FILES and path.name != "__pycache__"]
@@ -81,6 +88,27 @@ class TestLanguage(unittest.TestCase):
             for name in ready:
                 self.assertTrue(all(other.startswith("traitmere.") for other in ahead[name]), name)
             ahead = {name: ahead[name] for name in ahead if name not in ready}
+
+    def test_imports_name_the_file_that_defines_and_are_used(self):
+        defined = {f"traitmere.{path.stem}": module_names(path) for path in FILES}
+        for path in FILES:
+            used = {node.id for node in nodes_of(path) if isinstance(node, ast.Name)}
+            imported = [(node.module, each.name) for node in nodes_of(path) if isinstance(node, ast.ImportFrom)
+                        for each in node.names]
+            self.assertEqual(len(imported), len({name for module, name in imported}), path)
+            for module, name in imported:
+                self.assertIn(name, defined[module], path)
+                self.assertIn(name, used, path)
+
+    def test_no_local_name_is_one_of_an_import_a_class_or_a_builtin(self):
+        for path in FILES:
+            taken = {each.name for node in nodes_of(path) if isinstance(node, ast.ImportFrom) for each in node.names}
+            taken |= {node.name for node in nodes_of(path) if isinstance(node, ast.ClassDef)} | set(dir(builtins))
+            for function in nodes_of(path):
+                if isinstance(function, (ast.FunctionDef, ast.Lambda)):
+                    inner = [name for node in ast.walk(function) if isinstance(node, (ast.Name, ast.arg))
+                             for name in bound_names(node)]
+                    self.assertEqual(sorted(taken.intersection(inner)), [], path)
 
     def test_names(self):
         for name, node in all_nodes():

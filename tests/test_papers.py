@@ -92,6 +92,20 @@ class TestClash(PaperCase):
         self.check_clash("kept[by:holder]", "any")
         self.check_clash("loop[on:kept]", "loop[on:kept[by:loop]]")
 
+    def test_lets_behind_lets(self):
+        self.kinds.put("crate", ["holder"], rooms=[("top", "holder")])
+        self.kinds.put("safe", ["crate"], rooms=[("top", "tank")])
+        self.kinds.put("vault", ["safe"], rooms=[("out", "safe")])
+        for one, other in (("crate[top:holder[in:big]]", "safe"), ("crate[out:crate[top:holder[in:big]]]", "vault"),
+                           ("crate[out:crate[top:holder[in:#1=thing out:#1]]]", "vault[out:safe[top:tank[out:big]]]")):
+            self.check_clash(one, other)
+
+    def test_musts_of_what_musts_bring_in(self):
+        self.kinds.put("shelf", rooms=[("at", "any")])
+        self.kinds.must("shelf", self.box("shelf[at:kept[by:big]]"))
+        for one, other in (("shelf", "any"), ("shelf[at:kept]", "shelf"), ("loop[on:shelf]", "loop")):
+            self.check_clash(one, other)
+
     def test_boxes_that_have_no_rest_by_themselves(self):
         one = self.box("kept[by:big]")
         self.assertIsNone(join(self.kinds, one, one))
@@ -341,6 +355,36 @@ class TestShows(PaperCase):
             rows = [("own", ("one", 0)), ("must", 0, "kept"), ("step", 1, "by"), ("own", node), ("turn", 2),
                     ("too", 4, 3), ("own", ("one", 1)), ("none", 6, 5)]
             self.check_shows("kept[by:big]", "any", rows, False)
+
+    def within_musts(self, lead, again):
+        """A paper in which a row of "must" is named within nodes alone."""
+        return [("own", (*lead, 0)), ("must", 0, "shelf"), ("own", (*again, 1)), ("must", 2, "kept"), ("step", 3, "by"),
+                ("own", (*again, 2)), ("too", 4, 5), ("own", ("must", 3, 1)), ("none", 6, 7)]
+
+    def test_rows_that_are_named_within_nodes_alone(self):
+        self.kinds.put("shelf", rooms=[("at", "any")])
+        self.kinds.must("shelf", self.box("shelf[at:kept[by:big]]"))
+        self.check_shows("shelf", "any", self.within_musts(("one",), ("must", 1)), True)
+        self.check_shows("any", "shelf", self.within_musts(("other",), ("must", 1)), True)
+        self.check_shows("any", "shelf", self.within_musts(("one",), ("must", 1)), False)
+        # The same nodes throughout, but by names that aren't names of nodes.
+        for lead in ((), ("two",), ("must",), ("one", 0), ("one", 1), ("must", 0), ("must", 1), (0,)):
+            self.check_shows("shelf", "shelf", self.within_musts(lead, ("must", 1)), False)
+        for again in (("one", 1), ("other", 1), ("kept", 1), ("shelf", 1), ("must", 1, 1), ("must", 1, 0), ("must", 0),
+                      ("must", 2), ("must", 3), ("must", -8), (1,), ("must",), ("one",), ("must", "1"), ("must", (1,))):
+            self.check_shows("shelf", "shelf", self.within_musts(("one",), again), False)
+
+    def test_nodes_below_nought(self):
+        self.kinds.put("base", rooms=[("at", "any")])
+        self.kinds.put("top", ["base"])
+        self.kinds.put("side", ["base"])
+        self.kinds.put("edge", ["top", "side"])
+        self.kinds.must("top", self.box("top[at:live]"))
+        self.kinds.must("side", self.box("side[at:big]"))
+        for number, taken in ((0, True), (-1, False), (1, False)):
+            rows = [("own", ("one", number)), ("must", 0, "top"), ("must", 0, "side"), ("turn", 1), ("chain", 3, 2),
+                    ("step", 4, "at"), ("own", ("must", 1, 1)), ("too", 5, 6), ("own", ("must", 2, 1)), ("none", 7, 8)]
+            self.check_shows("edge", "any", rows, taken)
 
     def test_rows_of_no_form(self):
         wrong = [(), ("roots", 0), ("own",), ("own", ("one", 0), 0), ("turn",), ("turn", 0, 0), ("too", 0),

@@ -238,6 +238,21 @@ class TestTrees(ReadingCase):
         self.check_is("the dogs run run", box, good, False)
         self.check_is("the dog runs", box, good, False)
 
+    def test_texts_that_begin_with_a_tree_of_the_box(self):
+        for text in ("dog.0 (name", "dog.0 (", "(name dog.0", "dog.0 (name "):
+            self.check_is("dog", "thing[num:one]", text, False)
+        for text in ("the.0 dogs.0", "the.0 (name dogs.0", "(name the.0 dogs.0) (name"):
+            self.check_is("the dogs", "pick", text, False)
+            self.check_is("the dogs", "name[num:many]", text, False)
+
+    def test_rules_of_more_or_fewer_parts(self):
+        box = "told[does:deed[num:#1=many] who:name[num:#1]]"
+        self.check_is("the dogs run run", box, "(tell (name the.0 dogs.0) run.0 run.0)", False)
+        self.check_is("the dogs run", box, "(tell (name the.0 dogs.0 run.0))", False)
+        self.grammar.word("mm", self.box("mark"))
+        self.check_is("mm the dogs run mm", box, "(bare mm.0 (tell (name the.0 dogs.0) run.0) mm.0)", True)
+        self.check_is("mm the dogs run", box, "(bare mm.0 (tell (name the.0 dogs.0) run.0))", False)
+
     def test_texts_of_very_many_brackets(self):
         for text in ("(" * 50000, "(tell " * 50000, "dog.0" + ")" * 50000, "(tell " * 9000 + "dog.0" + ")" * 9000):
             self.check_is("dog", "thing[num:one]", text, False)
@@ -258,9 +273,10 @@ class TestSaid(ReadingCase):
         self.check_said("mark", 3)
 
     def test_most_left_out_is_three(self):
-        told = self.grammar.said(self.box("told"))
-        self.assertEqual(told, self.grammar.said(self.box("told"), most=3))
-        self.assertEqual(len(told), 5)
+        self.grammar.rule("again", self.box("made[a:any b:#1=told whole:#1]"), ["b", "a"])
+        many = [len(self.grammar.said(self.box("told"), most=most)) for most in (1, 2, 3, 4)]
+        self.assertEqual(many, [0, 0, 5, 5 + 5 * 6])
+        self.assertEqual(self.grammar.said(self.box("told")), self.grammar.said(self.box("told"), most=3))
 
     def test_four_words(self):
         self.grammar.rule("again", self.box("made[a:any b:told whole:mark]"), ["b", "a"])
